@@ -1,0 +1,1 @@
+"""Reslot: appointments moved one at a time."""
