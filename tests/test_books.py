@@ -1,10 +1,11 @@
 """[5], [6] Books and timetables."""
 
 import unittest
+from itertools import product
 
 from reslot.books import Book, check_timetable
 from reslot.errors import NoAppointment, NoBook, NoTimetable
-from tests.helper import Everything, all_timetables, no_integers, raised, small_books
+from tests.helper import Everything, no_integers, raised, small_books
 
 
 class Raises(unittest.TestCase):
@@ -169,9 +170,12 @@ class Copies(unittest.TestCase):
 class Timetables(Raises):
     def test_every_small_tuple(self):
         for book, rows, size in small_books():
-            valid = all_timetables(size, rows)
-            for timetable in valid:
-                self.assertIsNone(check_timetable(book, timetable))
+            for timetable in product(range(-1, size + 1), repeat=len(rows)):
+                wrong = [k for k, slot in enumerate(timetable) if slot not in rows[k] or slot in timetable[:k]]
+                if wrong:
+                    self.assert_no_timetable(wrong[0], book, timetable)
+                else:
+                    self.assertIsNone(check_timetable(book, timetable))
 
     def test_no_tuple(self):
         book = Book(3, [[0, 1], [1, 2]])
