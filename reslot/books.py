@@ -15,6 +15,7 @@ class Book:
         self._slots = slots
         # Copies, so that the book stays as it is when the caller's lists change.
         self._allowed = [tuple(row) for row in allowed]
+        self._users = _users_of_slots(slots, self._allowed)
 
     def size(self):
         """Return the number of slots."""
@@ -32,15 +33,20 @@ class Book:
             raise NoAppointment(appointment)
         return list(self._allowed[appointment])
 
+    def users(self):
+        """Return one integer for each slot: bit k of it is 1 if appointment k may use the slot."""
+        return self._users
+
 
 def check_timetable(book, timetable):
     """Raise NoTimetable unless the argument is a timetable of the book."""
     if not isinstance(timetable, tuple) or len(timetable) != len(book):
         raise NoTimetable(-1)
+    users = book.users()
     seen = set()
     for index, slot in enumerate(timetable):
         # The kind goes first: True is equal to 1, and a list cannot be in a set.
-        if not is_whole(slot) or slot in seen or slot not in book.allowed(index):
+        if not is_below(slot, len(users)) or slot in seen or not users[slot] >> index & 1:
             raise NoTimetable(index)
         seen.add(slot)
 
@@ -53,3 +59,12 @@ def _check_book(slots, allowed):
     for index, row in enumerate(allowed):
         if not is_slot_list(row, slots):
             raise NoBook(index)
+
+
+def _users_of_slots(slots, rows):
+    users = [0] * slots
+    for appointment, row in enumerate(rows):
+        bit = 1 << appointment
+        for slot in row:
+            users[slot] += bit
+    return tuple(users)

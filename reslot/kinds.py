@@ -8,7 +8,7 @@ def is_whole(value):
 
 def is_below(value, limit):
     """Tell whether the value is an integer from 0 to limit - 1."""
-    return is_whole(value) and 0 <= value < limit
+    return isinstance(value, int) and not isinstance(value, bool) and 0 <= value < limit
 
 
 def is_slot_list(value, size):
@@ -18,7 +18,7 @@ def is_slot_list(value, size):
     before = -1
     for slot in value:
         # The kind goes first: what is no integer cannot be compared with one.
-        if not is_below(slot, size) or slot <= before:
+        if not isinstance(slot, int) or isinstance(slot, bool) or not before < slot < size:
             return False
         before = slot
     return True

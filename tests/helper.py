@@ -1,8 +1,16 @@
-"""What several test files need: wrong values, small books, and a second way to find what is reached."""
+"""What several test files need: wrong values, books of many shapes, and a search move by move."""
 
+import unittest
 from itertools import combinations, product
+from random import Random
 
 from reslot.books import Book
+from reslot.errors import NoTimetable
+
+BOOK = Book(4, [[0, 1], [1, 2], [3]])
+START = (0, 1, 3)
+NO_TIMETABLES = ((-1, [0, 1, 3]), (-1, None), (-1, (0, 1)), (0, (2, 1, 3)), (0, (False, 1, 3)), (1, (1, 1, 3)),
+                 (2, (0, 1, [])), (-1, "013"), (-1, {}))
 
 
 class Odd:
@@ -46,6 +54,34 @@ def raised(call, *args, **more):
     return None
 
 
+class Raises(unittest.TestCase):
+    def assert_raises(self, kind, field, value, call, *args, **more):
+        error = raised(call, *args, **more)
+        self.assertIs(type(error), kind)
+        self.assertIs(type(getattr(error, field)), type(value))
+        self.assertEqual(getattr(error, field), value)
+
+    def assert_keeps(self, kind, field, value, call, *args):
+        """The error keeps the very value; it may be one that cannot be compared."""
+        error = raised(call, *args)
+        self.assertIs(type(error), kind)
+        self.assertIs(getattr(error, field), value)
+
+    def assert_no_timetables(self, call, *rest):
+        for index, timetable in NO_TIMETABLES:
+            with self.subTest(timetable):
+                self.assert_raises(NoTimetable, "index", index, call, BOOK, timetable, *rest)
+
+    def assert_no_two_timetables(self, call, *rest):
+        """For a call with two timetables: an error for the first one goes before one for the second."""
+        for index, timetable in NO_TIMETABLES:
+            with self.subTest(timetable):
+                self.assert_raises(NoTimetable, "index", index, call, BOOK, timetable, START, *rest)
+                self.assert_raises(NoTimetable, "index", index, call, BOOK, START, timetable, *rest)
+                for second in ((0, 1, 1), (), None):
+                    self.assert_raises(NoTimetable, "index", index, call, BOOK, timetable, second, *rest)
+
+
 def all_timetables(size, rows):
     """Every valid timetable, ascending, found without the program."""
     return [slots for slots in product(*rows) if len(set(slots)) == len(slots)]
@@ -75,3 +111,68 @@ def small_books():
         for many in range(longest + 1):
             for rows in product(kinds, repeat=many):
                 yield Book(size, list(rows)), list(rows), size
+
+
+def next_timetables(size, rows, timetable):
+    """Every timetable that is one possible move away, found without the program."""
+    free = [slot for slot in range(size) if slot not in timetable]
+    return [timetable[:k] + (slot,) + timetable[k + 1:] for k, row in enumerate(rows) for slot in free if slot in row]
+
+
+def distances(size, rows, start, most=10 ** 9):
+    """{timetable: fewest moves from the start} of all that is reached, or None if that are more than most."""
+    found = {start: 0}
+    layer = [start]
+    while layer:
+        further = []
+        for timetable in layer:
+            for later in next_timetables(size, rows, timetable):
+                if later not in found:
+                    found[later] = found[timetable] + 1
+                    further.append(later)
+        if len(found) > most:
+            return None
+        layer = further
+    return found
+
+
+def played(size, rows, timetable, steps):
+    """The timetable after the moves, each of them possible at its turn; found without the program."""
+    for appointment, slot in steps:
+        assert 0 <= appointment < len(rows) and slot in rows[appointment] and slot not in timetable, (timetable, steps)
+        timetable = timetable[:appointment] + (slot,) + timetable[appointment + 1:]
+    return timetable
+
+
+def mixed_books(seed, many, most_slots=6, fewest_slots=1):
+    """(book, rows, size, timetable) for books of many shapes, from nearly empty to full, with rows short or long."""
+    random = Random(seed)
+    for _ in range(many):
+        size = random.randint(fewest_slots, most_slots)
+        start = tuple(random.sample(range(size), size - min(size, random.choice((0, 1, 1, 1, 2, 2, 3, size)))))
+        longest = random.choice((1, 2, 2, 3, size))
+        rows = [sorted({slot, *random.choices(range(size), k=random.randint(0, longest))}) for slot in start]
+        yield Book(size, rows), rows, size, start
+
+
+def some_timetables(random, size, rows, start, many):
+    """At most so many of the valid timetables of a small book, in no order; the start is one of them."""
+    valid = all_timetables(size, rows)
+    return {start, *random.sample(valid, min(many, len(valid)))}
+
+
+def small_timetables(seed):
+    """(book, rows, size, timetable) for every timetable of small_books, and for some of mixed_books."""
+    for book, rows, size in small_books():
+        for timetable in all_timetables(size, rows):
+            yield book, rows, size, timetable
+    random = Random(seed)
+    for book, rows, size, start in mixed_books(seed, 400):
+        for timetable in some_timetables(random, size, rows, start, 3):
+            yield book, rows, size, timetable
+
+
+def corridor(size):
+    """(book, rows, size, timetable): appointment k may use k and k + 1, and only the last slot is free."""
+    rows = [[k, k + 1] for k in range(size - 1)]
+    return Book(size, rows), rows, size, tuple(range(size - 1))

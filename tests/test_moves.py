@@ -1,27 +1,9 @@
-"""[8], [9], [10] Free slots, moves, and what they reach."""
-
-import unittest
+"""[8], [9] Free slots and moves."""
 
 from reslot.books import Book
-from reslot.errors import NoMove, NoTimetable, TooMany
-from reslot.moves import free_slots, moved, moves, reached
-from tests.helper import all_timetables, component, no_integers, raised, small_books, step_between
-
-BOOK = Book(4, [[0, 1], [1, 2], [3]])
-
-
-class Raises(unittest.TestCase):
-    def assert_raises(self, kind, field, value, call, *args, **more):
-        error = raised(call, *args, **more)
-        self.assertIs(type(error), kind)
-        self.assertIs(type(getattr(error, field)), type(value))
-        self.assertEqual(getattr(error, field), value)
-
-    def assert_no_timetables(self, call, *rest):
-        for index, timetable in ((-1, [0, 1, 3]), (-1, None), (-1, (0, 1)), (0, (2, 1, 3)), (0, (False, 1, 3)),
-                                 (1, (1, 1, 3)), (2, (0, 1, [])), (-1, "013"), (-1, {})):
-            with self.subTest(timetable):
-                self.assert_raises(NoTimetable, "index", index, call, BOOK, timetable, *rest)
+from reslot.errors import NoMove
+from reslot.moves import free_slots, moved, moves
+from tests.helper import BOOK, Raises, all_timetables, no_integers, small_books, step_between
 
 
 class FreeSlots(Raises):
@@ -170,100 +152,3 @@ class Moved(Raises):
         wrong = [(1, 2), (9, 9)]
         self.assert_no_move(1, wrong)
         self.assertEqual(wrong, [(1, 2), (9, 9)])
-
-
-def apart(*sizes):
-    """A book of appointments that share no slot, with so many slots each, and its first timetable."""
-    rows, first = [], 0
-    for size in sizes:
-        rows.append(list(range(first, first + size)))
-        first += size
-    return Book(first, rows), tuple(row[0] for row in rows)
-
-
-class Reached(Raises):
-    def assert_too_many(self, most, book, timetable):
-        self.assert_raises(TooMany, "most", most, reached, book, timetable, most=most)
-
-    def test_every_small_book(self):
-        for book, rows, size in small_books():
-            valid = all_timetables(size, rows)
-            for timetable in valid:
-                expected = component(valid, timetable)
-                self.assertEqual(reached(book, timetable), expected)
-                self.assertEqual(reached(book, timetable, most=len(expected)), expected)
-                self.assert_too_many(len(expected) - 1, book, timetable)
-
-    def test_valid_timetables_that_are_not_reached(self):
-        self.assertEqual(reached(Book(3, [[0, 1], [0, 1]]), (0, 1)), [(0, 1)])
-        self.assertEqual(reached(Book(4, [[0, 1], [0, 1], [1, 2, 3]]), (1, 0, 2)), [(1, 0, 2), (1, 0, 3)])
-
-    def test_after_several_moves(self):
-        book = Book(3, [[0, 1], [0, 1, 2]])
-        self.assertEqual(reached(book, (0, 1)), [(0, 1), (0, 2), (1, 0), (1, 2)])
-
-    def test_no_appointments(self):
-        self.assertEqual(reached(Book(3, []), ()), [()])
-
-    def test_the_same_from_each_member(self):
-        book = Book(6, [[0, 1, 2], [1, 2, 3], [2, 3, 4], [0, 4], [5]])
-        found = reached(book, (0, 1, 2, 4, 5))
-        self.assertGreater(len(found), 5)
-        self.assertEqual(found, sorted(set(found)))
-        for timetable in found:
-            self.assertEqual(reached(book, timetable), found)
-
-    def test_kinds(self):
-        found = reached(BOOK, (0, 1, 3))
-        self.assertIs(type(found), list)
-        self.assertEqual({type(timetable) for timetable in found}, {tuple})
-
-    def test_most(self):
-        book, start = apart(3, 4)
-        self.assertEqual(len(reached(book, start, most=12)), 12)
-        self.assertEqual(len(reached(book, start, most=13)), 12)
-        for most in (11, 6, 1, 0):
-            self.assert_too_many(most, book, start)
-
-    def test_most_zero(self):
-        self.assert_too_many(0, Book(3, []), ())
-        self.assert_too_many(0, Book(1, [[0]]), (0,))
-        self.assertEqual(reached(Book(1, [[0]]), (0,), most=1), [(0,)])
-
-    def test_exactly_a_thousand(self):
-        book, start = apart(10, 10, 10)
-        found = reached(book, start)
-        self.assertEqual(found, [(a, b, c) for a in range(10) for b in range(10, 20) for c in range(20, 30)])
-        self.assertEqual(reached(book, start, most=1000), found)
-        self.assert_too_many(999, book, start)
-        book, start = apart(2, 5, 4, 25)
-        self.assertEqual(len(reached(book, start)), 1000)
-
-    def test_more_than_a_thousand(self):
-        for sizes, many in (((7, 11, 13), 1001), ((2,) * 10, 1024)):
-            book, start = apart(*sizes)
-            self.assert_raises(TooMany, "most", 1000, reached, book, start)
-            self.assert_too_many(many - 1, book, start)
-            self.assertEqual(len(reached(book, start, most=many)), many)
-
-    def test_far_too_many(self):
-        book = Book(60, [list(range(60))] * 30)
-        start = tuple(range(30))
-        self.assert_raises(TooMany, "most", 1000, reached, book, start)
-        for most in (0, 1, 5000):
-            self.assert_too_many(most, book, start)
-
-    def test_sixty_slots_that_are_full(self):
-        book = Book(60, [list(range(60))] * 60)
-        start = tuple(range(60))
-        self.assertEqual(reached(book, start, most=1), [start])
-
-    def test_most_by_keyword_alone(self):
-        self.assertRaises(TypeError, reached, BOOK, (0, 1, 3), 1000)
-
-    def test_no_timetable(self):
-        self.assert_no_timetables(reached)
-
-    def test_no_timetable_goes_before_too_many(self):
-        self.assert_raises(NoTimetable, "index", 0, reached, BOOK, (2, 1, 3), most=0)
-        self.assert_raises(NoTimetable, "index", -1, reached, BOOK, [0, 1, 3], most=0)
