@@ -3,8 +3,11 @@
 import unittest
 
 from reslot.books import Book, check_timetable
-from reslot.errors import NoBook, NoMove, NoTimetable
+from reslot.errors import Frozen, NoBook, NoCertificate, NoMove, NotAllowed, NoTimetable
 from reslot.moves import moved, moves, reached
+from reslot.opening import check_tight, frozen, open_slots, vacated
+from reslot.options import bring, check_insert, insert, options
+from reslot.plans import check_plan, least, plan
 
 
 class Examples(unittest.TestCase):
@@ -35,3 +38,72 @@ class Examples(unittest.TestCase):
     def test_reached(self):
         book = Book(3, [[0, 2], [1, 2]])
         self.assertEqual(reached(book, (0, 1)), [(0, 1), (0, 2), (2, 1)])
+
+    def test_open_slots_and_frozen(self):
+        book = Book(4, [[0, 1], [0, 1], [1, 2, 3]])
+        self.assertEqual([open_slots(book, (0, 1, 2)), frozen(book, (0, 1, 2))], [[2, 3], (0, 1)])
+
+    def test_check_tight(self):
+        book = Book(4, [[0, 1], [0, 1], [1, 2, 3]])
+        with self.assertRaises(NoCertificate) as caught:
+            check_tight(book, (0, 1, 2), (0, 2))
+        self.assertEqual(caught.exception.index, 2)
+
+    def test_vacated(self):
+        book = Book(3, [[0, 1], [1, 2]])
+        self.assertEqual(vacated(book, (0, 1), 0), [(1, 2), (0, 1)])
+
+    def test_vacated_of_a_closed_slot(self):
+        book = Book(3, [[0, 1], [0, 1]])
+        with self.assertRaises(Frozen) as caught:
+            vacated(book, (0, 1), 1)
+        self.assertEqual(caught.exception.slots, (0, 1))
+
+    def test_plan_with_a_frozen_appointment(self):
+        book = Book(3, [[0, 1], [0, 1]])
+        self.assertEqual(plan(book, (0, 1), (1, 0)), ("frozen", 0, (0, 1)))
+
+    def test_plan(self):
+        book = Book(3, [[0, 1], [0, 1, 2]])
+        self.assertEqual(plan(book, (0, 1), (1, 0)), ("plan", [(1, 2), (0, 1), (1, 0)]))
+
+    def test_least(self):
+        book = Book(3, [[0, 1], [0, 1, 2]])
+        self.assertEqual(least(book, (0, 1), (1, 0)), 3)
+
+    def test_check_plan(self):
+        book = Book(3, [[0, 1], [0, 1, 2]])
+        with self.assertRaises(NoCertificate) as caught:
+            check_plan(book, (0, 1), (1, 0), ("plan", [(1, 2), (0, 1)]))
+        self.assertEqual(caught.exception.index, 2)
+
+    def test_options(self):
+        book = Book(4, [[0, 1], [1, 2], [3]])
+        self.assertEqual([options(book, (0, 1, 3), 0), options(book, (0, 1, 3), 2)], [[0, 1], [3]])
+
+    def test_bring(self):
+        book = Book(4, [[0, 1], [1, 2], [3]])
+        self.assertEqual(bring(book, (0, 1, 3), 0, 1), [(1, 2), (0, 1)])
+
+    def test_bring_to_a_slot_that_is_not_allowed(self):
+        book = Book(4, [[0, 1], [1, 2], [3]])
+        with self.assertRaises(NotAllowed) as caught:
+            bring(book, (0, 1, 3), 0, 2)
+        self.assertEqual(caught.exception.slot, 2)
+
+    def test_bring_to_a_closed_slot(self):
+        book = Book(4, [[0, 1], [0, 1], [1, 2], [3]])
+        with self.assertRaises(Frozen) as caught:
+            bring(book, (0, 1, 2, 3), 0, 1)
+        self.assertEqual(caught.exception.slots, (0, 1, 2, 3))
+
+    def test_insert(self):
+        book = Book(4, [[0, 1], [1, 2], [3]])
+        self.assertEqual([insert(book, (0, 1, 3), [0, 3]), insert(book, (0, 1, 3), [3])],
+                         [("placed", [(1, 2), (0, 1)], 0), ("full", (3,))])
+
+    def test_check_insert(self):
+        book = Book(4, [[0, 1], [1, 2], [3]])
+        with self.assertRaises(NoCertificate) as caught:
+            check_insert(book, (0, 1, 3), [3], ("full", (3, 0)))
+        self.assertEqual(caught.exception.index, 3)
