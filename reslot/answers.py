@@ -1,7 +1,9 @@
 """What the checks of answers have in common."""
 
-from reslot.errors import NoCertificate, NoMove
+from reslot.books import check_timetable
+from reslot.errors import NoCertificate, NoMove, NoTimetable
 from reslot.moves import moved
+from reslot.ways import ways_out
 
 
 def is_answer(value, word, many):
@@ -18,3 +20,15 @@ def led_to(book, timetable, steps):
         return moved(book, timetable, steps)
     except NoMove as wrong:
         raise NoCertificate(wrong.index) from None
+
+
+def check_other(book, timetable, other):
+    """Raise NoCertificate(0) unless other is a timetable of the book, NoCertificate(1) unless moves lead to it."""
+    try:
+        check_timetable(book, other)
+    except NoTimetable:
+        raise NoCertificate(0) from None
+    ways = ways_out(book, timetable)
+    for appointment, slot in enumerate(timetable):
+        if slot != other[appointment] and slot not in ways:
+            raise NoCertificate(1)

@@ -22,14 +22,21 @@ def frozen(book, timetable):
 def check_tight(book, timetable, slots):
     """Raise NoCertificate unless the slots are a tight set: their appointments may use no other slot."""
     check_timetable(book, timetable)
+    fault = tight_fault(book, timetable, slots)
+    if fault is not None:
+        raise NoCertificate(fault)
+
+
+def tight_fault(book, timetable, slots):
+    """Return the index of NoCertificate for the slots, or None if they are a tight set."""
     if not isinstance(slots, tuple):
-        raise NoCertificate(-1)
+        return -1
     owners = {slot: appointment for appointment, slot in enumerate(timetable)}
     inside = set()
     for index, slot in enumerate(slots):
         # The kind goes first: True is equal to 1, and a list cannot be in a set.
         if not is_below(slot, book.size()) or slot not in owners or slot in inside:
-            raise NoCertificate(index)
+            return index
         inside.add(slot)
     leaving = 0
     for slot, users in enumerate(book.users()):
@@ -37,7 +44,8 @@ def check_tight(book, timetable, slots):
             leaving |= users
     for index, slot in enumerate(slots):
         if leaving >> owners[slot] & 1:
-            raise NoCertificate(len(slots) + index)
+            return len(slots) + index
+    return None
 
 
 def vacated(book, timetable, slot):

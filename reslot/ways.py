@@ -21,14 +21,25 @@ def unoccupied(book, timetable):
     return [slot for slot in range(book.size()) if slot not in occupied]
 
 
-def ways_out(book, timetable):
+def ways_out(book, timetable, gone=()):
     """Return a dict of the slots from which a way leads to a free slot: the open slots, the nearest ones first.
 
-    A free slot has the value None; any other one has the first step of a shortest way, (appointment, slot).
+    A free slot has the value None; any other one has the first step of a shortest way, (appointment, slot). The
+    appointments in gone are taken as cancelled, so that their slots are free.
+    """
+    waiting = (1 << len(book)) - 1
+    for appointment in gone:
+        waiting -= 1 << appointment
+    return ways_to(book, timetable, unoccupied(book, timetable) + [timetable[k] for k in gone], waiting)
+
+
+def ways_to(book, timetable, slots, waiting):
+    """Return a dict like that of ways_out, of the slots from which a way leads to one of the slots.
+
+    Bit k of waiting is 1 if appointment k may be the one that goes; it is 0 for those in the slots themselves.
     """
     users = book.users()
-    waiting = (1 << len(book)) - 1
-    layer = unoccupied(book, timetable)
+    layer = slots
     ways = {slot: None for slot in layer}
     while layer:
         further = []

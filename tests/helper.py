@@ -1,5 +1,6 @@
 """What several test files need: wrong values, books of many shapes, and a search move by move."""
 
+import sys
 import unittest
 from itertools import combinations, product
 from random import Random
@@ -176,3 +177,69 @@ def corridor(size):
     """(book, rows, size, timetable): appointment k may use k and k + 1, and only the last slot is free."""
     rows = [[k, k + 1] for k in range(size - 1)]
     return Book(size, rows), rows, size, tuple(range(size - 1))
+
+
+def opened_slots(size, rows, timetable):
+    """The open slots, found from the definition."""
+    opened = set(range(size)) - set(timetable)
+    grown = True
+    while grown:
+        more = {slot for k, slot in enumerate(timetable) if slot not in opened and opened & set(rows[k])}
+        grown = bool(more)
+        opened |= more
+    return opened
+
+
+def wandered(random, book, rows, size, timetable, many):
+    """A timetable after so many random moves."""
+    places = list(timetable)
+    users = [[k for k, row in enumerate(rows) if slot in row] for slot in range(size)]
+    free = [slot for slot in range(size) if slot not in places]
+    for _ in range(many if free else 0):
+        at = random.randrange(len(free))
+        if users[free[at]]:
+            k = random.choice(users[free[at]])
+            if places[k] != free[at]:
+                places[k], free[at] = free[at], places[k]
+    return tuple(places)
+
+
+def long_books(seed, fewest_free=1):
+    """(name, book, rows, size, timetable) for books of 60 slots: many shapes, one or more free slots, or none."""
+    random = Random(seed)
+    for free in (1, 1, 2, 20, 0):
+        if free >= fewest_free:
+            yield f"all slots, {free} free", *placed_book([list(range(60))] * (60 - free), range(60 - free))
+    yield "corridor", *corridor(60)
+    yield "corridor, backwards", *placed_book([[k - 1, k] for k in range(1, 60)], range(1, 60))
+    yield "band", *placed_book([sorted({max(k - 2, 0), max(k - 1, 0), k, k + 1}) for k in range(59)], range(59))
+    yield "triangle", *placed_book([list(range(k + 2)) for k in range(59)], range(59))
+    for free in (1, 1, 1, 2, 5, 30, 0):
+        for extra in (1, 2, 3, 6, 20):
+            if free >= fewest_free:
+                start = random.sample(range(60), 60 - free)
+                rows = [sorted({slot, *random.choices(range(60), k=random.randint(1, extra))}) for slot in start]
+                yield f"random, {free} free, {extra} more", *placed_book(rows, start)
+
+
+def placed_book(rows, start):
+    """(book, rows, size, timetable) of 60 slots."""
+    return Book(60, rows), rows, 60, tuple(start)
+
+
+def lines_run(call):
+    """The number of lines that Python runs in the call: a measure of its work that is always the same."""
+    many = 0
+
+    def count(frame, event, argument):
+        nonlocal many
+        many += event == "line"
+        return count
+
+    before = sys.gettrace()
+    sys.settrace(count)
+    try:
+        call()
+    finally:
+        sys.settrace(before)
+    return many

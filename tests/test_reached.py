@@ -1,14 +1,13 @@
 """[10] What moves reach."""
 
-import sys
 from itertools import permutations
 from random import Random
 
 from reslot.books import Book
 from reslot.errors import NoTimetable, TooMany
 from reslot.moves import reached
-from tests.helper import (BOOK, Raises, all_timetables, component, corridor, distances, mixed_books, small_books,
-                          some_timetables)
+from tests.helper import (BOOK, Raises, all_timetables, component, corridor, distances, lines_run, mixed_books,
+                          small_books, some_timetables)
 
 
 def apart(*sizes):
@@ -151,24 +150,6 @@ def branching_book(random, many):
         start.append(size)
         size += new
     return size, rows, start
-
-
-def lines_run(call):
-    """The number of lines that Python runs in the call: a measure of its work that is always the same."""
-    many = 0
-
-    def count(frame, event, argument):
-        nonlocal many
-        many += event == "line"
-        return count
-
-    before = sys.gettrace()
-    sys.settrace(count)
-    try:
-        call()
-    finally:
-        sys.settrace(before)
-    return many
 
 
 class Apart(Limited):

@@ -5,16 +5,19 @@ import inspect
 import unittest
 from itertools import permutations
 
-from reslot import books, errors, moves, opening, options, plans
+from reslot import books, costs, errors, moves, opening, options, plans, releasing, wishes
 from reslot.books import Book, check_timetable
-from reslot.errors import (Frozen, NoAppointment, NoBook, NoCertificate, NoMove, NoSlot, NotAllowed, NoTimetable,
-                           SlotError, TooMany)
+from reslot.errors import (Frozen, NoAppointment, NoBook, NoCertificate, NoCosts, NoMove, NoSlot, NotAllowed,
+                           NoTimetable, NoWish, SlotError, TooMany)
 from tests.helper import raised
 
 ROWS = [[0, 1], [1, 2], [3]]
 START = (0, 1, 3)
 FULL = [[0, 1], [0, 1], [1, 2], [3]]
 FULL_START = (0, 1, 2, 3)
+WISHES = {0: 1, 2: 3}
+COSTS = [[5, 1], [2, 4], [-3]]
+CHEAPEST = (2, (1, 2, 3), [0, 3, 0, 0])
 
 
 def given():
@@ -29,7 +32,19 @@ def given():
             (plans.check_plan, {**pair, "answer": ("plan", [(1, 2), (0, 1)])}),
             (options.options, {**book, "appointment": 0}), (options.bring, {**book, "appointment": 0, "slot": 1}),
             (options.insert, {**book, "allowed": [0, 3]}),
-            (options.check_insert, {**book, "allowed": [0, 3], "answer": ("placed", [(1, 2), (0, 1)], 0)})]
+            (options.check_insert, {**book, "allowed": [0, 3], "answer": ("placed", [(1, 2), (0, 1)], 0)}),
+            *given_wishes(book)]
+
+
+def given_wishes(book):
+    """The same for the functions with wishes, costs and cancellations."""
+    return [(wishes.granted, {**book, "wishes": dict(WISHES)}),
+            (wishes.check_granted, {**book, "wishes": dict(WISHES), "answer": ("granted", (1, 2, 3))}),
+            (costs.cheapest, {**book, "costs": copy.deepcopy(COSTS)}),
+            (costs.check_cheapest, {**book, "costs": copy.deepcopy(COSTS), "answer": copy.deepcopy(CHEAPEST)}),
+            (costs.most_granted, {**book, "wishes": {0: 1, 1: 2, 2: 0}}), (releasing.tight_sets, book),
+            (releasing.cancelled, {**book, "appointments": (2, 0)}), (releasing.fewest_cancelled, book),
+            (releasing.check_cancelled, {**book, "answer": ((2,), [(3,)])})]
 
 
 def given_full():
@@ -38,7 +53,13 @@ def given_full():
     pair = {"book": Book(4, FULL), "one": FULL_START, "other": (1, 0, 2, 3)}
     return [(opening.frozen, book), (opening.check_tight, {**book, "slots": (1, 0)}), (plans.plan, pair),
             (plans.check_plan, {**pair, "answer": ("frozen", 1, (1, 0))}), (options.insert, {**book, "allowed": [0]}),
-            (options.check_insert, {**book, "allowed": [0], "answer": ("full", (1, 0))})]
+            (options.check_insert, {**book, "allowed": [0], "answer": ("full", (1, 0))}),
+            (wishes.granted, {**book, "wishes": {0: 1}}),
+            (wishes.check_granted, {**book, "wishes": {0: 1, 3: 3}, "answer": ("short", (3, 0), (3,))}),
+            (costs.cheapest, {**book, "costs": [[1, 2], [3, 4], [5, 6], [7]]}),
+            (costs.most_granted, {**book, "wishes": {0: 1, 3: 3}}), (releasing.tight_sets, book),
+            (releasing.cancelled, {**book, "appointments": (1, 3)}), (releasing.fewest_cancelled, book),
+            (releasing.check_cancelled, {**book, "answer": ((3, 1), [(3,), (1, 0)])})]
 
 
 def given_wrong():
@@ -61,12 +82,28 @@ def given_wrong():
              (options.bring, {**full, "appointment": 0, "slot": 1}, Frozen, "slots", FULL_START),
              (options.insert, {**book, "allowed": [1, 0]}, NoBook, "index", 3),
              (options.check_insert, {**book, "allowed": [], "answer": None}, NoBook, "index", 3),
-             (options.check_insert, {**book, "allowed": [0], "answer": None}, NoCertificate, "index", -1)]
+             (options.check_insert, {**book, "allowed": [0], "answer": None}, NoCertificate, "index", -1),
+             (wishes.granted, {**book, "wishes": {0: 1, 3: 0}}, NoWish, "key", 3),
+             (wishes.check_granted, {**book, "wishes": [], "answer": None}, NoWish, "key", None),
+             (wishes.check_granted, {**book, "wishes": {}, "answer": ("short", (2,), (3,))}, NoCertificate, "index", 2),
+             (costs.cheapest, {**book, "costs": [[1, 2], [3], [5]]}, NoCosts, "index", 1),
+             (costs.check_cheapest, {**book, "costs": [], "answer": None}, NoCosts, "index", -1),
+             (costs.check_cheapest, {**book, "costs": COSTS, "answer": (7, START, [0] * 4)}, NoCertificate, "index", 2),
+             (costs.most_granted, {**book, "wishes": {0: 4}}, NoWish, "key", 0),
+             (releasing.cancelled, {**book, "appointments": (2, 1, 2)}, NoAppointment, "appointment", 2),
+             (releasing.check_cancelled, {**full, "answer": ((0, 3), [(0, 1, 2)])}, NoCertificate, "index", 4)]
     for call, arguments in given():
         for name in ("timetable", "one", "other"):
             if name in arguments:
                 wrong.append((call, {**arguments, name: (0, 1, 2)}, NoTimetable, "index", 2))
     return wrong
+
+
+def shown(call, result):
+    """The part of a result that the document settles."""
+    if call == costs.cheapest:
+        return result[:2]
+    return (len(result[0]), result[1]) if call == releasing.fewest_cancelled else result
 
 
 def positional(call, arguments):
@@ -106,20 +143,26 @@ class Names(unittest.TestCase):
                               (moves, ("free_slots", "moves", "moved", "reached")),
                               (opening, ("open_slots", "frozen", "check_tight", "vacated")),
                               (plans, ("least", "plan", "check_plan")),
-                              (options, ("options", "bring", "insert", "check_insert"))):
+                              (options, ("options", "bring", "insert", "check_insert")),
+                              (wishes, ("granted", "check_granted")),
+                              (costs, ("cheapest", "check_cheapest", "most_granted")),
+                              (releasing, ("tight_sets", "cancelled", "fewest_cancelled", "check_cancelled"))):
             for name in names:
                 self.assertEqual(getattr(module, name).__module__, module.__name__)
 
 
 class Results(unittest.TestCase):
     def test_results(self):
-        self.assertEqual([call(**arguments) for call, arguments in given()],
+        self.assertEqual([shown(call, call(**arguments)) for call, arguments in given()],
                          [Book(4, ROWS), [1, 2], None, [2], [(1, 2)], (1, 2, 3),
                           [(0, 1, 3), (0, 2, 3), (1, 2, 3)], [0, 1, 2], (2,), None, [(1, 2), (0, 1)], 2,
                           ("plan", [(1, 2), (0, 1)]), None, [0, 1], [(1, 2), (0, 1)],
-                          ("placed", [(1, 2), (0, 1)], 0), None])
-        self.assertEqual([call(**arguments) for call, arguments in given_full()],
-                         [(0, 1, 2, 3), None, ("frozen", 0, (0, 1, 2, 3)), None, ("full", (0, 1, 2, 3)), None])
+                          ("placed", [(1, 2), (0, 1)], 0), None, ("granted", (1, 2, 3)), None, (2, (1, 2, 3)), None,
+                          (2, (1, 2, 3)), [(3,)], (Book(4, [[1, 2]]), (1,)), (1, [(3,)]), None])
+        self.assertEqual([shown(call, call(**arguments)) for call, arguments in given_full()],
+                         [(0, 1, 2, 3), None, ("frozen", 0, (0, 1, 2, 3)), None, ("full", (0, 1, 2, 3)), None,
+                          ("short", (0,), ()), None, (18, (0, 1, 2, 3)), (1, (0, 1, 2, 3)), [(0, 1), (3,)],
+                          (Book(4, [[0, 1], [1, 2]]), (0, 2)), (2, [(0, 1), (3,)]), None])
 
     def test_again(self):
         before = [call(**arguments) for call, arguments in given() + given_full()]
